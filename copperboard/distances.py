@@ -50,17 +50,11 @@ def far_from_sides(side, skeleton, gap):
     return True
 
 
-def bar_apart(side, skeleton, gap):
-    """Whether the side, taken as a bar, is the gap (1 or more) or farther away from the skeleton."""
-    # If no sides meet, the bar lies within a polygon as a whole or not at all: one end of it tells.
-    return not holds_point(skeleton, side.begin) and far_from_sides(side, skeleton, gap)
-
-
 def skeletons_apart(first, second, gap):
     """Whether the least distance between the two is the gap (1 or more) or above it."""
     if boxes_apart(first.box, second.box, gap):
         return True
-    # Here too one point of each tells whether the one lies within the other.
+    # If no sides meet, a skeleton lies within a polygon as a whole or not at all: one point of it tells.
     if holds_point(first, second.points[0]) or holds_point(second, first.points[0]):
         return False
     for side in first.sides:

@@ -1,16 +1,11 @@
-"""Boards, what fits on them, and why a thing may not lie somewhere."""
+"""Boards and what they are made of."""
 
-from copperboard.distances import bar_apart, skeletons_apart
-from copperboard.skeletons import INSIDE, ON_SIDE, OUTSIDE, twice_area, where_in_polygon
+from copperboard.distances import skeletons_apart
+from copperboard.skeletons import INSIDE, ON_SIDE, OUTSIDE, Skeleton, twice_area, where_in_polygon
 
 KIND_NAMES = ("track", "via", "part", "all")
+LAST_THING_KIND = 2
 ALL_KINDS = 3
-
-# What first_reason tells in the first of its two numbers.
-POINT_OUTSIDE = 1
-NEAR_OUTLINE = 2
-NEAR_CUT = 3
-NEAR_KEEP = 4
 
 # What where_on_board tells in the first of its two numbers.
 OFF_BOARD = 0
@@ -101,37 +96,29 @@ def where_on_board(point, board):
     return [ON_BOARD, 0]
 
 
+def outline_bars(outline):
+    """The sides of the outline, each taken as a bar."""
+    return [Skeleton([side.begin, side.end]) for side in outline.sides]
+
+
 def cut_fits(cut, outline, cuts):
     """Whether the cut-out lies within the outline, apart by 1 from its sides and from the other cut-outs."""
     if not all_inside(cut.points, outline):
         return False
-    for side in outline.sides:
-        if not bar_apart(side, cut, 1):
-            return False
-    for other in cuts:
-        if not skeletons_apart(cut, other, 1):
-            return False
-    return True
+    return all([skeletons_apart(cut, other, 1) for other in outline_bars(outline) + cuts])
 
 
-def stops(keep, thing):
-    if keep.kind != ALL_KINDS and keep.kind != thing.kind:
-        return False
-    return keep.lo <= thing.hi and thing.lo <= keep.hi
+def with_keep(board, keep):
+    return Board(board.thicknesses, board.outline, board.cuts, board.keeps + [keep])
 
 
-def first_reason(board, thing, margin):
-    """The first reason why the thing may not lie there with the margin, as two numbers, or two zeros."""
-    if not all_inside(thing.skeleton.points, board.outline):
-        return [POINT_OUTSIDE, 0]
-    gap = thing.radius + margin
-    for e, side in enumerate(board.outline.sides):
-        if not bar_apart(side, thing.skeleton, gap):
-            return [NEAR_OUTLINE, e]
-    for i, cut in enumerate(board.cuts):
-        if not skeletons_apart(cut, thing.skeleton, gap):
-            return [NEAR_CUT, i]
-    for i, keep in enumerate(board.keeps):
-        if stops(keep, thing) and not skeletons_apart(keep.skeleton, thing.skeleton, gap + keep.radius):
-            return [NEAR_KEEP, i]
-    return [0, 0]
+def without_keep(board, i):
+    return Board(board.thicknesses, board.outline, board.cuts, board.keeps[:i] + board.keeps[i + 1:])
+
+
+def with_cut(board, cut):
+    return Board(board.thicknesses, board.outline, board.cuts + [cut], board.keeps)
+
+
+def without_cut(board, i):
+    return Board(board.thicknesses, board.outline, board.cuts[:i] + board.cuts[i + 1:], board.keeps)

@@ -1,15 +1,12 @@
 """Boards as texts."""
 
 from copperboard.layout import KIND_NAMES
+from copperboard.skeletons import coordinates_of
 from copperboard.words import bytes_of
 
 
 def point_words(skeleton):
-    words = []
-    for x, y in skeleton.points:
-        words.append(str(x))
-        words.append(str(y))
-    return words
+    return [str(number) for number in coordinates_of(skeleton)]
 
 
 def stack_lines(thicknesses):

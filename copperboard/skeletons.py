@@ -33,6 +33,14 @@ def paired(numbers):
     return list(zip(numbers[0::2], numbers[1::2]))
 
 
+def coordinates_of(skeleton):
+    """x and y of each of its points in turn."""
+    numbers = []
+    for point in skeleton.points:
+        numbers.extend(point)
+    return numbers
+
+
 def box_of(points):
     xs = [point[0] for point in points]
     ys = [point[1] for point in points]
@@ -120,20 +128,21 @@ def skeleton_in_form(points):
     return Skeleton(form_of(points))
 
 
-def polygon_of(points):
-    """The polygon with these corners, or None if they are no simple polygon."""
-    if len(points) < 3 or not is_simple(points):
-        return None
-    return skeleton_in_form(points)
+def is_skeleton(points):
+    """Whether one point or more tell a skeleton."""
+    if len(points) > 2:
+        return is_simple(points)
+    return len(points) == 1 or points[0] != points[1]
 
 
 def skeleton_of(points):
     """The skeleton that one point or more tell, or None if they are none."""
-    if len(points) > 2:
-        return polygon_of(points)
-    if len(points) == 2 and points[0] == points[1]:
-        return None
-    return skeleton_in_form(points)
+    return skeleton_in_form(points) if is_skeleton(points) else None
+
+
+def polygon_of(points):
+    """The polygon with these corners, or None if they are no simple polygon."""
+    return skeleton_of(points) if len(points) > 2 else None
 
 
 def where_in_polygon(point, polygon):

@@ -77,6 +77,51 @@ def may(place, kind, lo, hi, r, m, *numbers):
     return [11, place, kind, lo, hi, r, m, len(numbers)] + list(numbers)
 
 
+def reasons(place, kind, lo, hi, r, m, *numbers):
+    """The call all."""
+    return [12, place, kind, lo, hi, r, m, len(numbers)] + list(numbers)
+
+
+def room(place, kind, lo, hi, r, *numbers):
+    return [13, place, kind, lo, hi, r, len(numbers)] + list(numbers)
+
+
+def keep(place, kind, lo, hi, r, *numbers):
+    return [14, place, kind, lo, hi, r, len(numbers)] + list(numbers)
+
+
+def unkeep(place, i):
+    return [15, place, i]
+
+
+def keepout(place, i):
+    return [16, place, i]
+
+
+def cut(place, *numbers):
+    return [17, place, len(numbers)] + list(numbers)
+
+
+def uncut(place, i):
+    return [18, place, i]
+
+
+def cutout(place, i):
+    return [19, place, i]
+
+
+def raster(place, kind, lo, hi, r, m, x, y, pitch, columns, rows):
+    return [20, place, kind, lo, hi, r, m, x, y, pitch, columns, rows]
+
+
+def reach(place, kind, lo, hi, r, m, x, y, pitch, columns, rows, i, j):
+    return [21, place, kind, lo, hi, r, m, x, y, pitch, columns, rows, i, j]
+
+
+def way(place, kind, lo, hi, r, m, x, y, pitch, columns, rows, i, j, k, l):
+    return [22, place, kind, lo, hi, r, m, x, y, pitch, columns, rows, i, j, k, l]
+
+
 def parted(flat):
     """The answers, one list each."""
     result = []
@@ -107,17 +152,32 @@ def loaded(text):
     return ask(load(0, text))[0][0]
 
 
+def text_of(answer):
+    """The text that print has answered."""
+    assert answer[0] == len(answer) - 1, answer
+    return bytes(answer[1:]).decode("ascii")
+
+
 def printed(text, *calls):
     """The board of the text, printed after these calls, which are all answered with 0."""
     result = ask(load(0, text), *calls, printing(0))
     assert all(answer == [0] for answer in result[:-1]), result
-    assert result[-1][0] == len(result[-1]) - 1
-    return bytes(result[-1][1:]).decode("ascii")
+    return text_of(result[-1])
 
 
 def last(text, *calls):
     """What the last of these calls answers on the board of the text."""
     return ask(load(0, text), *calls)[-1]
+
+
+def flat(points):
+    """x and y of each point in turn."""
+    return [number for point in points for number in point]
+
+
+def square(left, low, width=5):
+    """The corners of a square, in their form."""
+    return [(left, low), (left + width, low), (left + width, low + width), (left, low + width)]
 
 
 def words(points):

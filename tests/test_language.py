@@ -20,6 +20,7 @@ OWN_NAMES = ("len range enumerate zip min max sum abs sorted reversed int str bo
 OWN_METHODS = ("append clear copy count endswith extend find get index insert isalnum isalpha isdigit islower isspace "
                "isupper items join keys ljust lower lstrip partition pop remove replace reverse rfind rjust rpartition "
                "rsplit rstrip setdefault split splitlines startswith strip update upper values zfill bit_length").split()
+CHANGING_METHODS = ("append", "clear", "extend", "insert", "pop", "remove", "reverse", "setdefault", "update")
 WALKED_AT_ONCE = ("zip", "enumerate", "reversed", "range")
 WALKERS = ("list", "tuple", "dict", "sorted", "sum", "any", "all", "enumerate", "zip", "min", "max")
 NEVER_WRITTEN = re.compile(r"\b(type|typing|typing_extensions|enum|Enum|IntEnum|StrEnum|Flag|IntFlag|Generic|Protocol|ABC|"
@@ -198,6 +199,43 @@ class Code(unittest.TestCase):
                     self.assertIn(node, right, (path, node.lineno))
                 if isinstance(node, (ast.Set, ast.SetComp)):
                     self.fail((path, node.lineno))
+
+    def test_walked_is_not_changed(self):
+        for path, tree in trees():
+            for loop in [node for node in ast.walk(tree) if isinstance(node, ast.For)]:
+                walked = {node.id for node in ast.walk(loop.iter) if isinstance(node, ast.Name)}
+                for node in [node for statement in loop.body for node in ast.walk(statement)]:
+                    if isinstance(node, ast.Call) and isinstance(node.func, ast.Attribute):
+                        if node.func.attr in CHANGING_METHODS and isinstance(node.func.value, ast.Name):
+                            self.assertNotIn(node.func.value.id, walked, (path, node.lineno))
+                    if isinstance(node, ast.Subscript) and isinstance(node.ctx, ast.Store):
+                        changed = {part.id for part in ast.walk(node.value) if isinstance(part, ast.Name)}
+                        self.assertEqual(changed & walked, set(), (path, node.lineno))
+
+    def test_lists_and_dicts_of_the_top_are_only_read(self):
+        for path, tree in trees():
+            kept = {node.targets[0].id for node in tree.body if isinstance(node, ast.Assign)
+                    and isinstance(node.value, (ast.List, ast.Dict))}
+            for node in [node for node in tree.body if isinstance(node, ast.Assign)]:
+                if isinstance(node.value, (ast.List, ast.Dict)):
+                    inner = [part for part in ast.walk(node.value) if isinstance(part, (ast.List, ast.Dict))]
+                    self.assertEqual(inner, [node.value], (path, node.lineno))
+            right = set()
+            for node in ast.walk(tree):
+                if isinstance(node, ast.Subscript) and isinstance(node.ctx, ast.Load):
+                    right.add(node.value)
+                if isinstance(node, ast.Compare):
+                    right.update(node.comparators)
+            for node in ast.walk(tree):
+                if isinstance(node, ast.Name) and isinstance(node.ctx, ast.Load) and node.id in kept:
+                    self.assertIn(node, right, (path, node.lineno))
+            drawn = {alias.name for row in tree.body if isinstance(row, ast.ImportFrom) for alias in row.names}
+            self.assertEqual({name for name in drawn if name.endswith("_CALLS")}, set(), path)
+
+    def test_errors(self):
+        for path, tree in trees():
+            for node in ast.walk(tree):
+                self.assertNotIsInstance(node, (ast.Try, ast.Raise), path)
 
     def test_classes(self):
         for path, tree in trees():

@@ -2,7 +2,7 @@
 
 import unittest
 
-from tests.helper import LIMIT, SQUARE, comb, last, loaded, printed, size, words
+from tests.helper import LIMIT, SQUARE, comb, last, loaded, printed, size, square, words
 
 OUTLINE = "outline 0 0 9 0 9 9\n"
 
@@ -138,9 +138,6 @@ class Cuts(unittest.TestCase):
     def assert_wrong(self, *cuts):
         self.assertEqual(self.answer(*cuts), -102 - len(cuts))
 
-    def square(self, left, low, width=5):
-        return [(left, low), (left + width, low), (left + width, low + width), (left, low + width)]
-
     def test_before_the_outline(self):
         self.assertEqual(loaded("copper 1\ncut 1 1 2 1 2 2\noutline 0 0 9 0 9 9\n"), -102)
 
@@ -155,25 +152,25 @@ class Cuts(unittest.TestCase):
         self.assertEqual(loaded(SQUARE + "cut 5 5 6 6 5 x\n"), -103)
 
     def test_32_and_33_points(self):
-        big = f"copper 1\noutline {words(self.square(-2000, -2000, 4000))}\ncut "
+        big = f"copper 1\noutline {words(square(-2000, -2000, 4000))}\ncut "
         self.assertEqual(loaded(big + words(comb(32))), 0)
         self.assertEqual(loaded(big + words(comb(33))), -103)
 
     def test_8_and_9_cuts(self):
-        cuts = [self.square(10 * i + 1, 1) for i in range(9)]
+        cuts = [square(10 * i + 1, 1) for i in range(9)]
         self.assert_right(*cuts[:8])
         self.assert_wrong(*cuts)
 
     def test_apart_by_1_from_the_outline(self):
-        self.assert_right(self.square(1, 1, 98))
-        self.assert_wrong(self.square(0, 1, 98))
-        self.assert_wrong(self.square(1, 2, 98))
-        self.assert_wrong(self.square(0, 0, 100))
+        self.assert_right(square(1, 1, 98))
+        self.assert_wrong(square(0, 1, 98))
+        self.assert_wrong(square(1, 2, 98))
+        self.assert_wrong(square(0, 0, 100))
 
     def test_outside(self):
-        self.assert_wrong(self.square(200, 0))
-        self.assert_wrong(self.square(98, 50))
-        self.assert_wrong(self.square(-10, -10, 120))
+        self.assert_wrong(square(200, 0))
+        self.assert_wrong(square(98, 50))
+        self.assert_wrong(square(-10, -10, 120))
 
     def test_less_than_1_from_a_slanting_side(self):
         text = "copper 1\noutline 0 0 40 30 0 60\ncut "
@@ -189,20 +186,20 @@ class Cuts(unittest.TestCase):
         self.assertEqual(loaded(text + "2 20 15 1 28 20\n"), -103)
 
     def test_apart_by_1_from_earlier_cuts(self):
-        self.assert_right(self.square(10, 10), self.square(16, 10))
-        self.assert_right(self.square(10, 10), self.square(16, 16))
-        self.assert_wrong(self.square(10, 10), self.square(15, 10))
-        self.assert_wrong(self.square(10, 10), self.square(15, 15))
-        self.assert_wrong(self.square(10, 10), self.square(12, 12))
-        self.assert_wrong(self.square(10, 10), self.square(50, 50), self.square(12, 12))
+        self.assert_right(square(10, 10), square(16, 10))
+        self.assert_right(square(10, 10), square(16, 16))
+        self.assert_wrong(square(10, 10), square(15, 10))
+        self.assert_wrong(square(10, 10), square(15, 15))
+        self.assert_wrong(square(10, 10), square(12, 12))
+        self.assert_wrong(square(10, 10), square(50, 50), square(12, 12))
 
     def test_less_than_1_from_an_earlier_cut(self):
         self.assert_wrong([(10, 10), (50, 40), (10, 40)], [(11, 10), (50, 10), (50, 38)])
         self.assert_right([(10, 10), (50, 40), (10, 40)], [(12, 10), (50, 10), (50, 38)])
 
     def test_one_within_the_other(self):
-        self.assert_wrong(self.square(10, 10, 50), self.square(30, 30))
-        self.assert_wrong(self.square(30, 30), self.square(10, 10, 50))
+        self.assert_wrong(square(10, 10, 50), square(30, 30))
+        self.assert_wrong(square(30, 30), square(10, 10, 50))
 
     def test_in_any_order_with_keeps(self):
         self.assertEqual(printed(SQUARE + "keep all 1 1 0 5 5\ncut 5 5 6 6 5 6\nkeep via 1 1 9 7 7\n"),

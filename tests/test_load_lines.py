@@ -3,7 +3,7 @@
 import unittest
 
 from copperboard.boards import call_load
-from tests.helper import FULL, SQUARE, ask, load, loaded, printed, printing
+from tests.helper import FULL, SQUARE, ask, load, loaded, printed, printing, text_of
 
 STACK = "copper 1\n"
 OUTLINE = "outline 0 0 9 0 9 9\n"
@@ -149,7 +149,7 @@ class RefusedLoad(unittest.TestCase):
 
     def test_place_gets_another_board(self):
         answers = ask(load(0, FULL), load(0, SQUARE), printing(0))
-        self.assertEqual(bytes(answers[2][1:]).decode(), SQUARE)
+        self.assertEqual(text_of(answers[2]), SQUARE)
 
 
 if __name__ == "__main__":

@@ -2,13 +2,9 @@
 
 import unittest
 
-from tests.helper import FULL, HUGE, LIMIT, SQUARE, ask, comb, last, load, may, mirror, printing, turn
+from tests.helper import FULL, HUGE, LIMIT, SQUARE, ask, comb, flat, last, load, may, mirror, printing, turn
 
 STACK = "copper 1\ncore 1\ncopper 1\ncore 1\ncopper 1\noutline 0 0 100 0 100 100 0 100\n"
-
-
-def flat(points):
-    return [number for point in points for number in point]
 
 
 class Outline(unittest.TestCase):

@@ -2,8 +2,8 @@
 
 import unittest
 
-from tests.helper import (FULL, HUGE, SQUARE, area, ask, between, copy, last, load, may, mirror, point, printing, same,
-                          shift, size, turn)
+from tests.helper import (FULL, HUGE, SQUARE, area, ask, between, copy, cut, cutout, keep, keepout, last, load, may,
+                          mirror, point, printing, raster, reach, reasons, room, same, shift, size, turn, uncut, unkeep, way)
 
 NO_PLACES = (-1, 2, 3, -HUGE, HUGE)
 
@@ -11,13 +11,21 @@ NO_PLACES = (-1, 2, 3, -HUGE, HUGE)
 def on_place(place):
     """Each call that asks for the board of one place, with right arguments else."""
     return [printing(place), size(place), area(place), mirror(place), shift(place, 1, 1), turn(place, 1),
-            point(place, 5, 5), between(place, 1, 2), may(place, 0, 1, 1, 0, 1, 50, 20)]
+            point(place, 5, 5), between(place, 1, 2), may(place, 0, 1, 1, 0, 1, 50, 20),
+            reasons(place, 0, 1, 1, 0, 1, 50, 20), room(place, 0, 1, 1, 0, 50, 20), keep(place, 0, 1, 1, 0, 50, 20),
+            unkeep(place, 0), keepout(place, 0), cut(place, 50, 50, 60, 50, 60, 60), uncut(place, 0), cutout(place, 0),
+            raster(place, 0, 1, 1, 0, 1, 50, 20, 1, 2, 2), reach(place, 0, 1, 1, 0, 1, 50, 20, 1, 2, 2, 0, 0),
+            way(place, 0, 1, 1, 0, 1, 50, 20, 1, 2, 2, 0, 0, 1, 1)]
 
 
 def on_place_with_wrong_arguments(place):
     """Calls with all arguments wrong but perhaps the place."""
     return [shift(place, HUGE, HUGE), point(place, HUGE, HUGE), between(place, 0, 0),
-            may(place, 9, 9, 0, -1, 0), may(place, 9, 9, 0, -1, 0, HUGE, 0, 0)]
+            may(place, 9, 9, 0, -1, 0), may(place, 9, 9, 0, -1, 0, HUGE, 0, 0), reasons(place, 9, 9, 0, -1, 0),
+            room(place, 9, 9, 0, -1), keep(place, 9, 9, 0, -1), unkeep(place, -1), keepout(place, -1), cut(place),
+            uncut(place, -1), cutout(place, -1), raster(place, 9, 9, 0, -1, 0, HUGE, HUGE, 0, 0, 0),
+            reach(place, 9, 9, 0, -1, 0, HUGE, HUGE, 0, 0, 0, -1, -1),
+            way(place, 9, 9, 0, -1, 0, HUGE, HUGE, 0, 0, 0, -1, -1, -1, -1)]
 
 
 class Places(unittest.TestCase):
@@ -61,7 +69,9 @@ class Copy(unittest.TestCase):
         self.assertEqual(answers[3], answers[1])
 
     def test_copies_go_their_own_ways(self):
-        for change in (lambda place: shift(place, 1, 0), mirror, lambda place: turn(place, 1)):
+        for change in (lambda place: shift(place, 1, 0), mirror, lambda place: turn(place, 1),
+                       lambda place: keep(place, 0, 1, 1, 0, 5, 5), lambda place: unkeep(place, 2),
+                       lambda place: cut(place, 50, 50, 60, 50, 60, 60), lambda place: uncut(place, 0)):
             for place in (0, 1):
                 answers = ask(load(0, FULL), copy(1, 0), printing(1), change(place), printing(1 - place), same(0, 1))
                 self.assertEqual(answers[4], answers[2])

@@ -4,11 +4,12 @@ The second reckoning goes another way: fractions and least distances in the plac
 in the place of crossings. The small coordinates make touching, flat and overlapping cases common.
 """
 
+import math
 import random
 import unittest
 from fractions import Fraction
 
-from tests.helper import ask, load, may, point, printing, words
+from tests.helper import ask, cut, flat, keep, load, may, point, printing, raster, reach, reasons, room, way, words
 
 
 def minus(a, b):
@@ -125,6 +126,84 @@ def some_outline(source, reach):
             return in_form(outline)
 
 
+def some_wide_outline(source):
+    """Nearly a square, now and then with a dent, so that there is much room."""
+    corners = ((-14, -14), (14, -14), (14, 14), (-14, 14))
+    while True:
+        outline = [(x + source.randint(-3, 3), y + source.randint(-3, 3)) for x, y in corners]
+        if source.randint(0, 1):
+            outline.append((source.randint(-14, 2), source.randint(-3, 3)))
+        if is_skeleton(outline):
+            return in_form(outline)
+
+
+def some_small_skeleton(source, count):
+    """A skeleton that is small beside such an outline."""
+    dx, dy = source.randint(-9, 9), source.randint(-9, 9)
+    return [(x + dx, y + dy) for x, y in some_skeleton(source, count, 3)]
+
+
+def fits(hole, outline):
+    if not all(where(corner, outline) for corner in hole):
+        return False
+    return all(distance_square(side, hole) >= 1 for side in sides(outline))
+
+
+class Board:
+    """An outline in its form, cut-outs, and keep-outs (radius and skeleton) that stop everything."""
+
+    def __init__(self, outline, cuts, keeps):
+        self.outline = outline
+        self.cuts = cuts
+        self.keeps = keeps
+
+    def obstacles(self):
+        """For each thing to be kept away from: its reason, its radius, its skeleton."""
+        found = [((2, e), 0, list(side)) for e, side in enumerate(sides(self.outline))]
+        found += [((3, i), 0, hole) for i, hole in enumerate(self.cuts)]
+        return found + [((4, i), radius, kept) for i, (radius, kept) in enumerate(self.keeps)]
+
+    def inside(self, thing):
+        return all(where(spot, self.outline) for spot in thing)
+
+    def reasons(self, thing, r, m):
+        found = [] if self.inside(thing) else [(1, 0)]
+        return found + [reason for reason, radius, skeleton in self.obstacles()
+                        if distance_square(skeleton, thing) < (radius + r + m) ** 2]
+
+    def room(self, thing, r):
+        if not self.inside(thing):
+            return 0
+        margins = [math.isqrt(math.floor(distance_square(skeleton, thing))) - radius - r
+                   for reason, radius, skeleton in self.obstacles()]
+        return max(0, min(margins))
+
+    def cells(self, x, y, pitch, columns, rows, r, m):
+        """The free cells, and the pairs of cells that a step joins."""
+        spots = {(i, j): (x + i * pitch, y + j * pitch) for i in range(columns) for j in range(rows)}
+        free = {cell for cell in spots if not self.reasons([spots[cell]], r, m)}
+        pairs = [((i, j), other) for i, j in spots for other in ((i + 1, j), (i, j + 1)) if other in spots]
+        joined = {(a, b) for a, b in pairs if not self.reasons([spots[a], spots[b]], r, m)}
+        return free, joined | {(b, a) for a, b in joined}
+
+
+def step_counts(first, free, steps):
+    """For each cell the least number of steps, found by going over all steps again until nothing changes."""
+    counts = {first: 0} if first in free else {}
+    changed = True
+    while changed:
+        changed = False
+        for a, b in steps:
+            if a in counts and counts[a] + 1 < counts.get(b, 1000):
+                counts[b] = counts[a] + 1
+                changed = True
+    return counts
+
+
+def by_rows(cells, columns, rows):
+    return [rows] + [sum(2 ** i for i in range(columns) if (i, j) in cells) for j in range(rows)]
+
+
 class Reckoning(unittest.TestCase):
     def test_skeletons_and_forms(self):
         source = random.Random(1)
@@ -154,12 +233,10 @@ class Reckoning(unittest.TestCase):
         fitting = 0
         for trial in range(800):
             outline = some_outline(source, 9)
-            cut = some_skeleton(source, source.randint(3, 5), 4)
-            fits = all(where(corner, outline) for corner in cut)
-            fits = fits and all(distance_square([a, b], cut) >= 1 for a, b in sides(outline))
-            fitting += fits
-            answer = ask(load(0, f"copper 1\noutline {words(outline)}\ncut {words(cut)}\n"))
-            self.assertEqual(answer, [[0] if fits else [-103]], (outline, cut))
+            hole = some_skeleton(source, source.randint(3, 5), 4)
+            fitting += fits(hole, outline)
+            answer = ask(load(0, f"copper 1\noutline {words(outline)}\ncut {words(hole)}\n"))
+            self.assertEqual(answer, [[0] if fits(hole, outline) else [-103]], (outline, hole))
         self.assertGreater(fitting, 50)
 
     def test_two_cuts(self):
@@ -167,43 +244,114 @@ class Reckoning(unittest.TestCase):
         text = "copper 1\noutline -20 -20 20 -20 20 20 -20 20\n"
         for trial in range(600):
             cuts = [some_skeleton(source, source.randint(3, 5), 5) for number in range(2)]
-            fits = distance_square(cuts[0], cuts[1]) >= 1
+            apart = distance_square(cuts[0], cuts[1]) >= 1
             answer = ask(load(0, text + f"cut {words(cuts[0])}\ncut {words(cuts[1])}\n"))
-            self.assertEqual(answer, [[0] if fits else [-104]], cuts)
+            self.assertEqual(answer, [[0] if apart else [-104]], cuts)
 
-    def first_reason(self, outline, cuts, keeps, thing, r, m):
-        if not all(where(spot, outline) for spot in thing):
-            return [1, 0]
-        for e, (a, b) in enumerate(sides(in_form(outline))):
-            if distance_square([a, b], thing) < (r + m) ** 2:
-                return [2, e]
-        for i, cut in enumerate(cuts):
-            if distance_square(cut, thing) < (r + m) ** 2:
-                return [3, i]
-        for i, (radius, keep) in enumerate(keeps):
-            if distance_square(keep, thing) < (radius + r + m) ** 2:
-                return [4, i]
-        return [0, 0]
+    def board_with(self, outline, hole, keeps):
+        """A board with the cut-out, if it fits, and these keep-outs; and its text."""
+        text = f"copper 1\noutline {words(outline)}\n"
+        text += "".join(f"keep all 1 1 {radius} {words(kept)}\n" for radius, kept in keeps)
+        if not fits(hole, outline):
+            return Board(outline, [], keeps), text
+        return Board(outline, [hole], keeps), text + f"cut {words(hole)}\n"
 
-    def test_may(self):
+    def some_board(self, source):
+        keeps = [(source.randint(0, 2), some_skeleton(source, source.randint(1, 5), 9)) for number in range(2)]
+        return self.board_with(some_outline(source, 16), some_skeleton(source, 3, 5), keeps)
+
+    def some_wide_board(self, source):
+        keeps = [(source.randint(0, 1), some_small_skeleton(source, source.randint(1, 4))) for number in range(2)]
+        keeps.append((0, some_skeleton(source, 2, 14)))
+        return self.board_with(some_wide_outline(source), some_small_skeleton(source, 3), keeps)
+
+    def test_may_and_all(self):
         source = random.Random(5)
         counts = {}
         for trial in range(150):
-            outline = some_outline(source, 16)
-            keeps = [(source.randint(0, 2), some_skeleton(source, source.randint(1, 5), 9)) for number in range(2)]
-            text = f"copper 1\noutline {words(outline)}\n"
-            text += "".join(f"keep all 1 1 {radius} {words(keep)}\n" for radius, keep in keeps)
-            cut = some_skeleton(source, 3, 5)
-            with_cut = ask(load(0, text + f"cut {words(cut)}\n"))[0] == [0]
-            calls, expected = [load(0, text + (f"cut {words(cut)}\n" if with_cut else ""))], [[0]]
+            board, text = self.some_board(source)
+            calls, expected = [load(0, text)], [[0]]
             for number in range(10):
                 thing = some_skeleton(source, source.randint(1, 5), 7)
                 r, m = source.randint(0, 2), source.randint(1, 3)
-                calls.append(may(0, 0, 1, 1, r, m, *[number for spot in thing for number in spot]))
-                expected.append(self.first_reason(outline, [cut] if with_cut else [], keeps, thing, r, m))
-                counts[expected[-1][0]] = counts.get(expected[-1][0], 0) + 1
+                found = board.reasons(thing, r, m)
+                calls += [may(0, 0, 1, 1, r, m, *flat(thing)), reasons(0, 0, 1, 1, r, m, *flat(thing))]
+                expected += [(flat(found) + [0, 0])[:2], [len(found)] + flat(found)]
+                counts[expected[-2][0]] = counts.get(expected[-2][0], 0) + 1
             self.assertEqual(ask(*calls), expected, calls)
         self.assertGreater(min(counts.get(reason, 0) for reason in range(5)), 20, counts)
+
+    def test_room(self):
+        source = random.Random(6)
+        counts = {}
+        for trial in range(60):
+            board, text = self.some_wide_board(source)
+            calls, expected = [load(0, text)], [[0]]
+            for number in range(10):
+                thing = some_small_skeleton(source, source.randint(1, 4))
+                r = source.randint(0, 2)
+                margin = board.room(thing, r)
+                calls.append(room(0, 0, 1, 1, r, *flat(thing)))
+                expected.append([margin] + list(board.reasons(thing, r, margin + 1)[0]))
+                counts[margin] = counts.get(margin, 0) + 1
+            self.assertEqual(ask(*calls), expected, calls)
+        self.assertGreater(min(counts.get(margin, 0) for margin in range(4)), 20, counts)
+
+    def test_rasters(self):
+        source = random.Random(7)
+        partly = unlike = 0
+        for trial in range(80):
+            board, text = self.some_wide_board(source)
+            r, m, pitch = source.randint(0, 1), source.randint(1, 2), source.randint(1, 5)
+            columns, rows = source.randint(1, 6), source.randint(1, 6)
+            x, y = source.randint(-15, 0), source.randint(-15, 0)
+            told = (0, 1, 1, r, m, x, y, pitch, columns, rows)
+            free, steps = board.cells(x, y, pitch, columns, rows, r, m)
+            calls, expected = [load(0, text), raster(0, *told)], [[0], by_rows(free, columns, rows)]
+            for number in range(8):
+                first, end = [(source.randrange(columns), source.randrange(rows)) for number in range(2)]
+                counts = step_counts(first, free, steps)
+                calls += [reach(0, *told, *first), way(0, *told, *first, *end)]
+                expected += [by_rows(counts, columns, rows), [1, counts[end]] if end in counts else [0, 0]]
+                unlike += 0 < len(counts) < len(free)
+            partly += 0 < len(free) < columns * rows
+            self.assertEqual(ask(*calls), expected, calls)
+        self.assertGreater(partly, 20)
+        self.assertGreater(unlike, 60)
+
+    def test_keeps_and_cuts_by_calls(self):
+        source = random.Random(8)
+        counts = {}
+        for trial in range(150):
+            outline = some_wide_outline(source)
+            board = Board(outline, [], [])
+            calls, expected = [load(0, "copper 1\noutline " + words(outline))], [[0]]
+            for number in range(8):
+                points = self.some_small_points(source)
+                calls += [cut(0, *flat(points)), keep(0, 3, 1, 1, 0, *flat(points))]
+                expected.append([self.added_cut(board, points)])
+                expected.append([len(board.keeps) if is_skeleton(points) else -9])
+                if is_skeleton(points):
+                    board.keeps.append((0, in_form(points)))
+                counts[expected[-2][0]] = counts.get(expected[-2][0], 0) + 1
+            lines = ["copper 1", "outline " + words(outline)] + ["cut " + words(hole) for hole in board.cuts]
+            text = "".join(line + "\n" for line in lines + ["keep all 1 1 0 " + words(kept) for r, kept in board.keeps])
+            self.assertEqual(ask(*calls, printing(0)), expected + [[len(text)] + list(text.encode())], calls)
+        self.assertGreater(min(counts.get(answer, 0) for answer in (0, 1, -9, -12)), 10, counts)
+
+    def some_small_points(self, source):
+        if source.randint(0, 1):
+            return some_small_skeleton(source, source.randint(2, 5))
+        return some_points(source, source.randint(2, 4), 3)
+
+    def added_cut(self, board, points):
+        """What cut answers; the board is changed accordingly."""
+        if len(points) < 3 or not is_skeleton(points):
+            return -9
+        if not fits(points, board.outline) or any(distance_square(points, hole) < 1 for hole in board.cuts):
+            return -12
+        board.cuts.append(in_form(points))
+        return len(board.cuts) - 1
 
 
 if __name__ == "__main__":
